@@ -1,0 +1,1 @@
+"""Fillsay: sayings with gaps, filled by sayings."""
