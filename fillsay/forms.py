@@ -48,6 +48,13 @@ def row_of(letters, number):
     return row
 
 
+def row_count(letters):
+    count = 1
+    for place in range(len(letters)):
+        count = 2 * count
+    return count
+
+
 def table_of(form, letters):
     standing = dict([(product, True) for product in form])
     return summed([product in standing for product in products_over(letters)])

@@ -1,7 +1,9 @@
-"""What several tests need: rows, truths and forms, reckoned apart from the program."""
+"""What several tests need: rows, truths and forms, reckoned apart from the program, and things drawn."""
 
 import itertools
 import random
+
+from fillsay.sayings import Always, And, Either, Letter, Never, Not, Or
 
 LETTERS = "abcpqrxyz"
 
@@ -63,3 +65,35 @@ def small_forms():
     """All forms over a and x: each truth function of the two, once."""
     products = ["", "a", "ax", "x"]
     return [tuple(some) for size in range(5) for some in itertools.combinations(products, size)]
+
+
+def meant(text, row):
+    """The truth of a saying's text, read sign by sign as point 5 writes it."""
+    truth, rest = meant_first(text, row)
+    assert rest == "", text
+    return truth
+
+
+def meant_first(text, row):
+    """The truth of the saying that the text begins with, and what stands behind it."""
+    if text[0] == "~":
+        one, rest = meant_first(text[1:], row)
+        return not one, rest
+    if text[0] == "(":
+        one, rest = meant_first(text[1:], row)
+        other, behind = meant_first(rest[1:], row)
+        assert behind[0] == ")", text
+        return {"&": one and other, "|": one or other, "+": one != other}[rest[0]], behind[1:]
+    return {"1": True, "0": False, **row}[text[0]], text[1:]
+
+
+def drawn_saying(draws, letters, size):
+    """A saying of just so many parts."""
+    if size == 1:
+        sign = draws.choice(letters + "01" + letters)
+        return {"0": Never, "1": Always}.get(sign, lambda: Letter(sign))()
+    if size == 2 or draws.randint(0, 4) == 0:
+        return Not(drawn_saying(draws, letters, size - 1))
+    ahead = draws.randint(1, size - 2)
+    kind = draws.choice((And, Or, Either))
+    return kind(drawn_saying(draws, letters, ahead), drawn_saying(draws, letters, size - 1 - ahead))

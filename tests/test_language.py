@@ -41,6 +41,11 @@ def of_kind(kind):
     return [(name, node) for name, node in nodes() if isinstance(node, kind)]
 
 
+def bound_at_top(tree):
+    made = [row.name for row in tree.body if isinstance(row, (ast.FunctionDef, ast.ClassDef))]
+    return made + [target.id for row in tree.body if isinstance(row, ast.Assign) for target in row.targets]
+
+
 class Language(unittest.TestCase):
 
     def told(self, rule, name, node):
@@ -123,10 +128,43 @@ class Language(unittest.TestCase):
                 self.assertNotIn(node.attr, methods, self.told("L18", name, node))
 
     def test_each_file_draws_only_from_those_it_may(self):
-        may = {"errors.py": (), "forms.py": ("errors",), "sayings.py": ("errors", "forms")}
+        may = {"__init__.py": (), "errors.py": (), "forms.py": ("errors",), "sayings.py": ("errors", "forms"),
+               "texts.py": ("errors", "sayings"), "putting.py": ("errors", "forms", "sayings", "texts"),
+               "wishes.py": ("errors", "forms", "sayings", "texts", "putting")}
+        self.assertEqual(sorted(may), [path.name for path in sources()])
         for name, node in of_kind(ast.ImportFrom):
-            if name in may:
-                self.assertIn(node.module.split(".")[1], may[name], self.told("interface", name, node))
+            self.assertIn(node.module.split(".")[1], may[name], self.told("interface", name, node))
+
+    def test_names_are_drawn_from_the_file_that_defines_them(self):
+        defined = {name: bound_at_top(tree) for name, tree in trees()}
+        for name, node in of_kind(ast.ImportFrom):
+            for part in node.names:
+                self.assertIsNone(part.asname, self.told("L16", name, node))
+                self.assertIn(part.name, defined[node.module.split(".")[1] + ".py"], self.told("L16", name, node))
+
+    def test_each_name_stands_for_one_thing(self):
+        for name, tree in trees():
+            drawn = [part.name for row in tree.body if isinstance(row, ast.ImportFrom) for part in row.names]
+            bound = bound_at_top(tree) + drawn
+            self.assertEqual(len(bound), len(set(bound)), "L15 " + name)
+            classes = [row.name for row in tree.body if isinstance(row, ast.ClassDef)]
+            within = [node for top in tree.body if isinstance(top, (ast.FunctionDef, ast.ClassDef))
+                      for node in ast.walk(top)]
+            for node in within:
+                if isinstance(node, ast.arg):
+                    self.assertNotIn(node.arg, drawn + classes, self.told("L15", name, node))
+                if isinstance(node, ast.Name) and isinstance(node.ctx, ast.Store):
+                    self.assertNotIn(node.id, bound, self.told("L15", name, node))
+
+    def test_is_and_assignments(self):
+        for name, node in of_kind(ast.Compare):
+            for operator, right in zip(node.ops, node.comparators):
+                if isinstance(operator, (ast.Is, ast.IsNot)):
+                    self.assertIsInstance(right, ast.Constant, self.told("L20", name, node))
+                    self.assertIn(right.value, (None, True, False), self.told("L20", name, node))
+        for name, node in of_kind(ast.Assign):
+            self.assertEqual(len(node.targets), 1, self.told("L6", name, node))
+            self.assertNotIsInstance(node.targets[0], (ast.Tuple, ast.List), self.told("L6", name, node))
 
 
 if __name__ == "__main__":

@@ -2,43 +2,11 @@ import unittest
 
 from fillsay.forms import letters_of, worth
 from fillsay.sayings import Always, And, Either, Letter, Never, Not, Or, Saying
-from tests.helper import LETTERS, all_rows, chance, is_form, truths_of
+from tests.helper import LETTERS, all_rows, chance, drawn_saying, is_form, meant, truths_of
 
 SEVEN = (Always, Never, Letter, Not, And, Or, Either)
 A, B, C = Letter("a"), Letter("b"), Letter("c")
 X, Y, P = Letter("x"), Letter("y"), Letter("p")
-
-
-def meant(text, row):
-    """The truth of a saying's text, read sign by sign as point 5 writes it."""
-    truth, rest = meant_first(text, row)
-    assert rest == "", text
-    return truth
-
-
-def meant_first(text, row):
-    """The truth of the saying that the text begins with, and what stands behind it."""
-    if text[0] == "~":
-        one, rest = meant_first(text[1:], row)
-        return not one, rest
-    if text[0] == "(":
-        one, rest = meant_first(text[1:], row)
-        other, behind = meant_first(rest[1:], row)
-        assert behind[0] == ")", text
-        return {"&": one and other, "|": one or other, "+": one != other}[rest[0]], behind[1:]
-    return {"1": True, "0": False, **row}[text[0]], text[1:]
-
-
-def drawn_saying(draws, letters, size):
-    """A saying of just so many parts."""
-    if size == 1:
-        sign = draws.choice(letters + "01" + letters)
-        return {"0": Never, "1": Always}.get(sign, lambda: Letter(sign))()
-    if size == 2 or draws.randint(0, 4) == 0:
-        return Not(drawn_saying(draws, letters, size - 1))
-    ahead = draws.randint(1, size - 2)
-    kind = draws.choice((And, Or, Either))
-    return kind(drawn_saying(draws, letters, ahead), drawn_saying(draws, letters, size - 1 - ahead))
 
 
 def chain(kind, letters):
