@@ -128,9 +128,15 @@ class Language(unittest.TestCase):
                 self.assertNotIn(node.attr, methods, self.told("L18", name, node))
 
     def test_each_file_draws_only_from_those_it_may(self):
-        may = {"__init__.py": (), "errors.py": (), "forms.py": ("errors",), "sayings.py": ("errors", "forms"),
-               "texts.py": ("errors", "sayings"), "putting.py": ("errors", "forms", "sayings", "texts"),
-               "wishes.py": ("errors", "forms", "sayings", "texts", "putting")}
+        stages = (("sayings", "texts"), ("forms",), ("putting",), ("wishes",), ("onegap",), ("several",), ("papers",))
+        may = {"__init__.py": (), "errors.py": ()}
+        lower = ["errors"]
+        for files in stages:
+            may.update({name + ".py": list(lower) for name in files})
+            lower += files
+        may["forms.py"] = ["errors"]
+        may["sayings.py"].append("forms")
+        may["texts.py"].append("sayings")
         self.assertEqual(sorted(may), [path.name for path in sources()])
         for name, node in of_kind(ast.ImportFrom):
             self.assertIn(node.module.split(".")[1], may[name], self.told("interface", name, node))

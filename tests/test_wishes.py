@@ -5,44 +5,8 @@ from fillsay.errors import FillError, NoLetters, NoSaying, NoWish, Strange, TooM
 from fillsay.forms import form_of, letters_of
 from fillsay.texts import read
 from fillsay.wishes import Task
-from tests.helper import all_rows, chance, drawn_form, drawn_saying, is_form, meant, true_by, truths_of
-
-FREE = {"x": "p", "y": "q", "z": "r"}
-GIVEN_ROWS = ("", "a", "b", "c", "ab", "ac", "bc", "abc")
-GAP_ROWS = ("", "x", "y", "z", "xy", "xz", "yz", "xyz")
-
-
-def sides_of(wish):
-    """The texts of the two sides of a wish, as point 15 tells."""
-    place = wish.index("=")
-    return wish[:place].strip(" "), wish[place + 1:].strip(" ")
-
-
-def fails(wishes, row):
-    return any(meant(left, row) != meant(right, row) for left, right in [sides_of(wish) for wish in wishes])
-
-
-def row_at(letters, number):
-    """The row of truths with this number, as point 10 tells."""
-    size = len(letters)
-    return {letter: number // 2 ** (size - 1 - place) % 2 == 1 for place, letter in enumerate(letters)}
-
-
-def drawn_wish(draws, letters, most):
-    left = drawn_saying(draws, letters, draws.randint(1, most)).text()
-    right = drawn_saying(draws, letters, draws.randint(1, most)).text()
-    return left + draws.choice(("=", " = ", "  =", "= ")) + right
-
-
-def drawn_tasks(seed, turns):
-    """Givens, gaps and wishes: over all rows of either kind, of none to six wishes."""
-    draws = chance(seed)
-    told = []
-    for givens, gaps in itertools.product(GIVEN_ROWS, GAP_ROWS):
-        for turn in range(turns):
-            wishes = [drawn_wish(draws, givens + gaps, 9) for wish in range(draws.choice((0, 1, 1, 2, 3, 6)))]
-            told.append((givens, gaps, wishes))
-    return told
+from tests.helper import FREE, GAP_ROWS, GIVEN_ROWS, all_rows, chance, drawn_form, drawn_tasks, drawn_wish, fails
+from tests.helper import is_form, meant, meant_to_fill, row_at, sides_of, truths_of
 
 
 class Told(unittest.TestCase):
@@ -167,15 +131,6 @@ class Doing(unittest.TestCase):
 
 class Fills(unittest.TestCase):
 
-    def meant_to_fill(self, task, wishes, filling):
-        """By all rows of the givens and the free letters, with the truths of the filling for the gaps."""
-        letters = task.givens() + "".join(FREE[gap] for gap in task.gaps())
-        for row in all_rows(letters):
-            gaps = {gap: true_by(form, row) for gap, form in zip(task.gaps(), filling)}
-            if fails(wishes, {**row, **gaps}):
-                return False
-        return True
-
     def test_by_hand(self):
         self.assertIs(Task("", "", []).fills([]), True)
         self.assertIs(Task("", "", ["1 = 0"]).fills([]), False)
@@ -207,7 +162,7 @@ class Fills(unittest.TestCase):
                 wishes = [drawn_wish(draws, "a" + gaps, 6) for wish in range(draws.randint(0, 2))]
                 task = Task("a", gaps, wishes)
                 for filling in itertools.product(plain, repeat=len(gaps)):
-                    truth = self.meant_to_fill(task, wishes, filling)
+                    truth = meant_to_fill("a", gaps, wishes, filling)
                     self.assertIs(task.fills(list(filling)), truth, (gaps, wishes, filling))
                     both[truth] += 1
         self.assertGreater(min(both.values()), 30)
@@ -233,7 +188,7 @@ class Fills(unittest.TestCase):
             free = "".join(FREE[gap] for gap in gaps)
             for turn in range(4):
                 filling = [drawn_form(draws, givens + free, 64) for gap in gaps]
-                truth = self.meant_to_fill(task, wishes[:1], filling)
+                truth = meant_to_fill(givens, gaps, wishes[:1], filling)
                 self.assertIs(task.fills(filling), truth, (givens, gaps, wishes[:1], filling))
                 both[truth] += 1
         self.assertGreater(min(both.values()), 30)
