@@ -9,11 +9,17 @@ def put_in(form, forms):
     own_letters = letters_of(form)
     put_ones = [forms.get(letter, (letter,)) for letter in own_letters]
     letters = letters_in_all(put_ones)
-    numbers = [0] * row_count(letters)
-    for put in put_ones:
-        numbers = [2 * number + (1 if truth else 0) for number, truth in zip(numbers, table_of(put, letters))]
     own_table = table_of(form, own_letters)
-    return form_of(letters, [own_table[number] for number in numbers])
+    return form_of(letters, [own_table[number] for number in numbers_by(put_ones, letters)])
+
+
+# The forms' truths by a row over the letters are themselves a row of truths:
+# the numbers of these, for all rows in order.
+def numbers_by(forms, letters):
+    numbers = [0] * row_count(letters)
+    for form in forms:
+        numbers = [2 * number + (1 if truth else 0) for number, truth in zip(numbers, table_of(form, letters))]
+    return numbers
 
 
 def letters_in_all(forms):

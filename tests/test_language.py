@@ -128,7 +128,8 @@ class Language(unittest.TestCase):
                 self.assertNotIn(node.attr, methods, self.told("L18", name, node))
 
     def test_each_file_draws_only_from_those_it_may(self):
-        stages = (("sayings", "texts"), ("forms",), ("putting",), ("wishes",), ("onegap",), ("several",), ("papers",))
+        stages = (("sayings", "texts"), ("forms",), ("putting",), ("wishes",), ("onegap",), ("several",), ("papers",),
+                  ("counting",), ("alikes", "between"), ("desk",))
         may = {"__init__.py": (), "errors.py": ()}
         lower = ["errors"]
         for files in stages:
